@@ -1,0 +1,42 @@
+// Package fault: what can go wrong in a text, and where it did.
+package fault
+
+import (
+	"errors"
+	"strconv"
+)
+
+// What can go wrong in a text. Each stands for one error of package api.
+var (
+	Long   = errors.New("the text is too long")
+	Syntax = errors.New("the text is no query")
+	Deep   = errors.New("the query is too deep")
+	Type   = errors.New("a part is of the wrong kind")
+	Store  = errors.New("the line is no series")
+	Twice  = errors.New("the series is there already")
+	Many   = errors.New("there is more than may be")
+)
+
+// Fault is something that went wrong at one place of a text. What is wrong
+// with a text as a whole is not wrapped by it: no place is told of that.
+type Fault struct {
+	Unit  string // what the place counts
+	Place int
+	What  error
+}
+
+// AtByte wraps what went wrong by the byte at which it did.
+func AtByte(place int, what error) error {
+	return &Fault{Unit: "byte", Place: place, What: what}
+}
+
+// AtLine wraps what went wrong by the line in which it did.
+func AtLine(place int, what error) error {
+	return &Fault{Unit: "line", Place: place, What: what}
+}
+
+func (f *Fault) Error() string {
+	return f.Unit + " " + strconv.Itoa(f.Place) + ": " + f.What.Error()
+}
+
+func (f *Fault) Unwrap() error { return f.What }

@@ -1,0 +1,71 @@
+// Package gauge: queries on numbers that were measured over time: see DOC.md.
+package gauge
+
+import (
+	"errors"
+
+	"gauge/api"
+	"gauge/fault"
+	"gauge/series"
+	"gauge/syntax"
+)
+
+// Print tells a query as it is written (P3).
+func Print(query string) (string, api.Errno, int) {
+	part, err := syntax.Read(query)
+	if err != nil {
+		return "", numberOf(err), placeOf(err)
+	}
+	return syntax.Print(part), api.OK, 0
+}
+
+// Load tells whether a text is a store (P4).
+func Load(store string) (api.Errno, int) {
+	_, err := series.Read(store)
+	return numberOf(err), placeOf(err)
+}
+
+// Eval tells what a query says of a store (P5).
+func Eval(query string, store string, span api.Span) (string, api.Errno, int) {
+	return "", api.OK, 0
+}
+
+// Verify looks code over (P6).
+func Verify(code string) (api.Need, api.Errno, int) { return api.Need{}, api.OK, 0 }
+
+// Exec runs code (P7).
+func Exec(code string, store string, span api.Span, fuel int) (string, api.Errno, int) {
+	return "", api.OK, 0
+}
+
+// Compile makes code of a query (P8).
+func Compile(query string, flags int) (string, api.Errno, int) { return "", api.OK, 0 }
+
+func numberOf(err error) api.Errno {
+	switch {
+	case errors.Is(err, fault.Long):
+		return api.ErrLong
+	case errors.Is(err, fault.Syntax):
+		return api.ErrSyntax
+	case errors.Is(err, fault.Deep):
+		return api.ErrDeep
+	case errors.Is(err, fault.Type):
+		return api.ErrType
+	case errors.Is(err, fault.Store):
+		return api.ErrStore
+	case errors.Is(err, fault.Twice):
+		return api.ErrTwice
+	case errors.Is(err, fault.Many):
+		return api.ErrMany
+	}
+	return api.OK
+}
+
+// placeOf gives the place that is told with an error: 0 where none is.
+func placeOf(err error) int {
+	var at *fault.Fault
+	if errors.As(err, &at) {
+		return at.Place
+	}
+	return 0
+}
