@@ -1,4 +1,4 @@
-// Package fault: what can go wrong in a text, and where it did.
+// Package fault: what can go wrong in what is handed in, and where it did.
 package fault
 
 import (
@@ -6,7 +6,7 @@ import (
 	"strconv"
 )
 
-// What can go wrong in a text. Each stands for one error of package api.
+// What can go wrong. Each stands for one error of package api.
 var (
 	Long   = errors.New("the text is too long")
 	Syntax = errors.New("the text is no query")
@@ -15,6 +15,7 @@ var (
 	Store  = errors.New("the line is no series")
 	Twice  = errors.New("the series is there already")
 	Many   = errors.New("there is more than may be")
+	Times  = errors.New("the times may not be")
 )
 
 // Fault is something that went wrong at one place of a text. What is wrong

@@ -4,7 +4,9 @@ package gauge
 import (
 	"errors"
 
+	"gauge/answer"
 	"gauge/api"
+	"gauge/eval"
 	"gauge/fault"
 	"gauge/series"
 	"gauge/syntax"
@@ -27,7 +29,24 @@ func Load(store string) (api.Errno, int) {
 
 // Eval tells what a query says of a store (P5).
 func Eval(query string, store string, span api.Span) (string, api.Errno, int) {
-	return "", api.OK, 0
+	text, err := evaluate(query, store, span)
+	return text, numberOf(err), placeOf(err)
+}
+
+func evaluate(query string, store string, span api.Span) (string, error) {
+	part, err := syntax.Read(query)
+	if err != nil {
+		return "", err
+	}
+	all, err := series.Read(store)
+	if err != nil {
+		return "", err
+	}
+	times, err := answer.Times(span)
+	if err != nil {
+		return "", err
+	}
+	return eval.Answer(part, all, times), nil
 }
 
 // Verify looks code over (P6).
@@ -57,6 +76,8 @@ func numberOf(err error) api.Errno {
 		return api.ErrTwice
 	case errors.Is(err, fault.Many):
 		return api.ErrMany
+	case errors.Is(err, fault.Times):
+		return api.ErrTimes
 	}
 	return api.OK
 }

@@ -16,7 +16,7 @@ func TestNumberOfEachFault(t *testing.T) {
 		what error
 		want api.Errno
 	}{
-		{nil, api.OK}, {fault.Long, api.ErrLong}, {fault.Syntax, api.ErrSyntax}, {fault.Deep, api.ErrDeep}, {fault.Type, api.ErrType}, {fault.Store, api.ErrStore}, {fault.Twice, api.ErrTwice}, {fault.Many, api.ErrMany},
+		{nil, api.OK}, {fault.Long, api.ErrLong}, {fault.Syntax, api.ErrSyntax}, {fault.Deep, api.ErrDeep}, {fault.Type, api.ErrType}, {fault.Store, api.ErrStore}, {fault.Twice, api.ErrTwice}, {fault.Many, api.ErrMany}, {fault.Times, api.ErrTimes},
 	} {
 		if got := numberOf(c.what); got != c.want || placeOf(c.what) != 0 {
 			t.Errorf("%v: %d and the place %d", c.what, got, placeOf(c.what))
@@ -56,10 +56,25 @@ func TestNothingBesideAnError(t *testing.T) {
 		if (e == api.ErrLong || e == api.ErrType) && at != 0 || at < 0 || at > len(text) {
 			t.Errorf("P1: Print(%.60q) tells %d with %d", text, at, e)
 		}
+		checkNothingBeside(t, text)
 		e, at = Load(text)
 		if e != api.ErrStore && e != api.ErrTwice && at != 0 || at < 0 || at > strings.Count(text, "\n") {
 			t.Errorf("P1: Load(%.60q) tells %d with %d", text, at, e)
 		}
+	}
+}
+
+// checkNothingBeside looks at what Eval tells of a text, as a query and as a
+// store.
+func checkNothingBeside(t *testing.T, text string) {
+	t.Helper()
+	_, wanted, place := Print(text)
+	if said, e, at := Eval(text, "", spanOf(0, 0, 1)); e != wanted || at != place || (said == "") != (e != api.OK) {
+		t.Errorf("P1: Eval(%.60q) = %q, %d, %d", text, said, e, at)
+	}
+	wanted, place = Load(text)
+	if said, e, at := Eval("a", text, spanOf(0, 0, 1)); e != wanted || at != place || (said == "") != (e != api.OK) {
+		t.Errorf("P1: Eval of the store %.60q = %q, %d, %d", text, said, e, at)
 	}
 }
 
@@ -76,16 +91,20 @@ func TestNoCallPanics(t *testing.T) {
 	}
 }
 
-type answer struct {
-	printed         string
-	print, load     api.Errno
-	printAt, loadAt int
+type told struct {
+	printed, asQuery, asStore                 string
+	print, load, evalQuery, evalStore         api.Errno
+	printAt, loadAt, evalQueryAt, evalStoreAt int
 }
 
-func answerOf(text string) answer {
-	var a answer
+const allQuery = `sum by (x,or) (a + b * cpu or abcdefgh) - total(cpu{host!=""}[9]) or cpu`
+
+func answerOf(text string) told {
+	var a told
 	a.printed, a.print, a.printAt = Print(text)
 	a.load, a.loadAt = Load(text)
+	a.asQuery, a.evalQuery, a.evalQueryAt = Eval(text, "a{x=1} 1:1 2:2\na{x=2} 1:3\nb{x=1} 2:7", spanOf(0, 3, 1))
+	a.asStore, a.evalStore, a.evalStoreAt = Eval(allQuery, text, spanOf(1, 12, 3))
 	return a
 }
 
@@ -93,7 +112,7 @@ func answerOf(text string) answer {
 // answer.
 func TestAnswersHangOnArgumentsAlone(t *testing.T) {
 	texts := oddTexts()
-	first := make([]answer, len(texts))
+	first := make([]told, len(texts))
 	for i, text := range texts {
 		first[i] = answerOf(text)
 	}

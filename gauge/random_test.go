@@ -43,18 +43,23 @@ func (m maker) leaf() sample {
 	}
 	s := m.selector()
 	if m.Intn(2) == 0 {
-		word, n := m.pick("total", "peak", "low", "size", "rise"), strconv.Itoa(1+m.Intn(1000))
+		word, n := m.pick("total", "peak", "low", "size", "rise"), strconv.Itoa(m.length())
 		s.loose = word + m.blanks() + "(" + m.blanks() + s.loose + m.blanks() + "[" + m.blanks() + n + m.blanks() + "]" + m.blanks() + ")"
 		s.printed = word + "(" + s.printed + "[" + n + "])"
 	}
 	return s
 }
 
+// length gives that of a window: short, long or the longest.
+func (m maker) length() int { return []int{1 + m.Intn(15), 1 + m.Intn(1000), 1000}[m.Intn(3)] }
+
+func (m maker) label() string { return m.pick("x", "or", "sum") }
+
 func (m maker) selector() sample {
 	name := m.name()
 	var loose, printed []string
 	for range m.Intn(3) {
-		label, sign, text := m.pick("x", "or", "sum"), m.pick("=", "!="), m.pick(`""`, `"1"`, `"abcdefgh"`)
+		label, sign, text := m.label(), m.pick("=", "!="), m.pick(`""`, `"1"`, `"abcdefgh"`)
 		loose = append(loose, m.blanks()+label+m.blanks()+sign+m.blanks()+text+m.blanks())
 		printed = append(printed, label+sign+text)
 	}
@@ -77,7 +82,7 @@ func (m maker) query(depth int) sample {
 		return sample{"-" + m.blanks() + s.loose, "-" + s.printed, 3, s.vector, s.wrong}
 	case m.Intn(4) == 0:
 		s := m.at(m.query(depth-1), 0)
-		word, one, two := m.pick("sum", "max", "min", "count"), m.name(), m.name()
+		word, one, two := m.pick("sum", "max", "min", "count"), m.label(), m.pick(m.label(), m.name())
 		s.loose = word + " by" + m.blanks() + "(" + one + m.blanks() + "," + m.blanks() + two + ")" + m.blanks() + "(" + m.blanks() + s.loose + ")"
 		s.printed = word + " by (" + one + "," + two + ") (" + s.printed + ")"
 		return sample{s.loose, s.printed, 3, true, s.wrong || !s.vector}

@@ -6,18 +6,16 @@ import (
 
 	"gauge/api"
 	"gauge/fault"
+	"gauge/labels"
 	"gauge/words"
 )
 
 // Series is the numbers that were measured under one name and labels.
 type Series struct {
 	Name    string
-	Labels  []Label  // by rising names
+	Labels  labels.Labels
 	Samples []Sample // by rising times
 }
-
-// Label is a label of a series.
-type Label struct{ Name, Text string }
 
 // Sample is a number that was measured at a time.
 type Sample struct{ Time, Value int }
@@ -88,7 +86,7 @@ func readSeries(line string) (Series, bool) {
 	if !opened || !closed || !words.IsName(name) {
 		return Series{}, false
 	}
-	labels, ok := readLabels(inside)
+	list, ok := readLabels(inside)
 	if !ok {
 		return Series{}, false
 	}
@@ -96,24 +94,24 @@ func readSeries(line string) (Series, bool) {
 	if !ok {
 		return Series{}, false
 	}
-	return Series{Name: name, Labels: labels, Samples: samples}, true
+	return Series{Name: name, Labels: labels.Of(list), Samples: samples}, true
 }
 
-func readLabels(text string) ([]Label, bool) {
+func readLabels(text string) ([]labels.Label, bool) {
 	if text == "" {
 		return nil, true
 	}
-	var labels []Label
+	var list []labels.Label
 	last := ""
 	for _, one := range strings.Split(text, ",") {
 		name, word, found := strings.Cut(one, "=")
 		if !found || !words.IsName(name) || word == "" || !words.IsWord(word) || name <= last {
 			return nil, false
 		}
-		labels = append(labels, Label{Name: name, Text: word})
+		list = append(list, labels.Label{Name: name, Text: word})
 		last = name
 	}
-	return labels, true
+	return list, true
 }
 
 func readSamples(text string) ([]Sample, bool) {

@@ -6,12 +6,13 @@ import (
 	"testing"
 
 	"gauge/fault"
+	"gauge/labels"
 )
 
 func TestReadKeepsWhatStandsThere(t *testing.T) {
 	got, err := Read("\ncpu{host=a,job=0x} 0:5 12:-7 1000000:0\n\nup{}\n")
 	want := []Series{
-		{Name: "cpu", Labels: []Label{{"host", "a"}, {"job", "0x"}}, Samples: []Sample{{0, 5}, {12, -7}, {1000000, 0}}},
+		{Name: "cpu", Labels: labels.Of([]labels.Label{{Name: "host", Text: "a"}, {Name: "job", Text: "0x"}}), Samples: []Sample{{0, 5}, {12, -7}, {1000000, 0}}},
 		{Name: "up"},
 	}
 	if err != nil || !reflect.DeepEqual(got, want) {
