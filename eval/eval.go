@@ -2,6 +2,7 @@
 package eval
 
 import (
+	"slices"
 	"strings"
 
 	"gauge/answer"
@@ -40,7 +41,8 @@ func (m *moment) says(part syntax.Part) values.Value {
 		}
 		return values.Arithmetic(p.Operator, m.says(p.Left), m.says(p.Right))
 	case syntax.Group:
-		return m.groups.Measure(values.MeasureOf(p.Word), p.Names, m.vector(p.Of))
+		names := slices.Sorted(slices.Values(p.Names))
+		return m.groups.Measure(values.MeasureOf(p.Word), names, m.vector(p.Of))
 	case syntax.Window:
 		return values.Over(values.MeasureOf(p.Word), values.PickRange(m.all, p.From, p.Length, m.time))
 	case syntax.Selector:

@@ -16,6 +16,11 @@ var (
 	Twice  = errors.New("the series is there already")
 	Many   = errors.New("there is more than may be")
 	Times  = errors.New("the times may not be")
+	Code   = errors.New("the text is no code")
+	Sum    = errors.New("the sum is wrong")
+	Refer  = errors.New("the argument speaks of what there is not")
+	Stack  = errors.New("the stack or the slots are not as they must be")
+	Fuel   = errors.New("no fuel is left")
 )
 
 // Fault is something that went wrong at one place of a text. What is wrong
@@ -34,6 +39,11 @@ func AtByte(place int, what error) error {
 // AtLine wraps what went wrong by the line in which it did.
 func AtLine(place int, what error) error {
 	return &Fault{Unit: "line", Place: place, What: what}
+}
+
+// AtInstruction wraps what went wrong by the instruction at which it did.
+func AtInstruction(place int, what error) error {
+	return &Fault{Unit: "instruction", Place: place, What: what}
 }
 
 func (f *Fault) Error() string {

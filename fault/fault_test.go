@@ -17,6 +17,9 @@ func TestFaultTellsWhatAndWhere(t *testing.T) {
 	if got := AtByte(7, Syntax).Error(); got != "byte 7: the text is no query" {
 		t.Errorf("told as %q", got)
 	}
+	if got := AtInstruction(0, Stack).Error(); got != "instruction 0: the stack or the slots are not as they must be" {
+		t.Errorf("told as %q", got)
+	}
 }
 
 func TestWholeTextHasNoPlace(t *testing.T) {

@@ -6,10 +6,13 @@ import (
 
 	"gauge/answer"
 	"gauge/api"
+	"gauge/bytecode"
 	"gauge/eval"
 	"gauge/fault"
+	"gauge/machine"
 	"gauge/series"
 	"gauge/syntax"
+	"gauge/verify"
 )
 
 // Print tells a query as it is written (P3).
@@ -50,11 +53,40 @@ func evaluate(query string, store string, span api.Span) (string, error) {
 }
 
 // Verify looks code over (P6).
-func Verify(code string) (api.Need, api.Errno, int) { return api.Need{}, api.OK, 0 }
+func Verify(code string) (api.Need, api.Errno, int) {
+	_, need, err := lookOver(code)
+	return need, numberOf(err), placeOf(err)
+}
+
+func lookOver(code string) (bytecode.Code, api.Need, error) {
+	read, err := bytecode.Read(code)
+	if err != nil {
+		return bytecode.Code{}, api.Need{}, err
+	}
+	need, err := verify.Look(read)
+	return read, need, err
+}
 
 // Exec runs code (P7).
 func Exec(code string, store string, span api.Span, fuel int) (string, api.Errno, int) {
-	return "", api.OK, 0
+	text, err := execute(code, store, span, fuel)
+	return text, numberOf(err), placeOf(err)
+}
+
+func execute(code string, store string, span api.Span, fuel int) (string, error) {
+	read, _, err := lookOver(code)
+	if err != nil {
+		return "", err
+	}
+	all, err := series.Read(store)
+	if err != nil {
+		return "", err
+	}
+	times, err := answer.Times(span)
+	if err != nil {
+		return "", err
+	}
+	return machine.Run(read, all, times, fuel)
 }
 
 // Compile makes code of a query (P8).
@@ -78,6 +110,16 @@ func numberOf(err error) api.Errno {
 		return api.ErrMany
 	case errors.Is(err, fault.Times):
 		return api.ErrTimes
+	case errors.Is(err, fault.Code):
+		return api.ErrCode
+	case errors.Is(err, fault.Sum):
+		return api.ErrSum
+	case errors.Is(err, fault.Refer):
+		return api.ErrRefer
+	case errors.Is(err, fault.Stack):
+		return api.ErrStack
+	case errors.Is(err, fault.Fuel):
+		return api.ErrFuel
 	}
 	return api.OK
 }

@@ -16,7 +16,7 @@ func TestNumberOfEachFault(t *testing.T) {
 		what error
 		want api.Errno
 	}{
-		{nil, api.OK}, {fault.Long, api.ErrLong}, {fault.Syntax, api.ErrSyntax}, {fault.Deep, api.ErrDeep}, {fault.Type, api.ErrType}, {fault.Store, api.ErrStore}, {fault.Twice, api.ErrTwice}, {fault.Many, api.ErrMany}, {fault.Times, api.ErrTimes},
+		{nil, api.OK}, {fault.Long, api.ErrLong}, {fault.Syntax, api.ErrSyntax}, {fault.Deep, api.ErrDeep}, {fault.Type, api.ErrType}, {fault.Store, api.ErrStore}, {fault.Twice, api.ErrTwice}, {fault.Many, api.ErrMany}, {fault.Times, api.ErrTimes}, {fault.Code, api.ErrCode}, {fault.Sum, api.ErrSum}, {fault.Refer, api.ErrRefer}, {fault.Stack, api.ErrStack}, {fault.Fuel, api.ErrFuel},
 	} {
 		if got := numberOf(c.what); got != c.want || placeOf(c.what) != 0 {
 			t.Errorf("%v: %d and the place %d", c.what, got, placeOf(c.what))
@@ -30,7 +30,7 @@ func TestNumberOfEachFault(t *testing.T) {
 	}
 }
 
-// oddTexts gives texts of all sorts: queries, stores, and what is neither.
+// oddTexts gives texts of all sorts: queries, stores, code, and what is none.
 func oddTexts() []string {
 	m := maker{rand.New(rand.NewSource(3))}
 	texts := []string{"", " ", "\n", "\x00", "\xff\xfe", "a", "a{}", "1", "é", manySeries(31), manySamples("a", 201), "cpu{host=a,job=x} 10:5 12:-7"}
@@ -43,6 +43,8 @@ func oddTexts() []string {
 		junk := make([]byte, m.Intn(40))
 		m.Read(junk)
 		texts = append(texts, string(junk))
+		code := m.bend(m.code(1 + m.Intn(4)))
+		texts = append(texts, code.code(), sealed(m.spoil(code.body())))
 	}
 	return texts
 }
@@ -57,6 +59,7 @@ func TestNothingBesideAnError(t *testing.T) {
 			t.Errorf("P1: Print(%.60q) tells %d with %d", text, at, e)
 		}
 		checkNothingBeside(t, text)
+		checkNothingBesideCode(t, text)
 		e, at = Load(text)
 		if e != api.ErrStore && e != api.ErrTwice && at != 0 || at < 0 || at > strings.Count(text, "\n") {
 			t.Errorf("P1: Load(%.60q) tells %d with %d", text, at, e)
@@ -78,6 +81,21 @@ func checkNothingBeside(t *testing.T, text string) {
 	}
 }
 
+func checkNothingBesideCode(t *testing.T, text string) {
+	t.Helper()
+	need, wanted, place := Verify(text)
+	if wanted != api.OK && need != (api.Need{}) || (wanted == api.OK || wanted == api.ErrSum) && place != 0 || place < 0 || place > len(text) {
+		t.Errorf("P1: Verify(%.60q) = %v, %d, %d", text, need, wanted, place)
+	}
+	if said, e, at := Exec(text, "", spanOf(0, 0, 1), api.MaxFuel); e != wanted || at != place || (said == "") != (e != api.OK) {
+		t.Errorf("P1: Exec(%.60q) = %q, %d, %d", text, said, e, at)
+	}
+	wanted, place = Load(text)
+	if said, e, at := Exec(few(1, 0), text, spanOf(0, 0, 1), 1); e != wanted || at != place || (said == "") != (e != api.OK) {
+		t.Errorf("P1: Exec on the store %.60q = %q, %d, %d", text, said, e, at)
+	}
+}
+
 func TestNoCallPanics(t *testing.T) {
 	numbers := []int{math.MinInt, -1, 0, 1, 7, 8, math.MaxInt}
 	for _, text := range oddTexts()[:100] {
@@ -95,9 +113,19 @@ type told struct {
 	printed, asQuery, asStore                 string
 	print, load, evalQuery, evalStore         api.Errno
 	printAt, loadAt, evalQueryAt, evalStoreAt int
+
+	need                       api.Need
+	asCode, asCodesStore       string
+	verify, exec, execStore    api.Errno
+	verifyAt, execAt, storesAt int
 }
 
 const allQuery = `sum by (x,or) (a + b * cpu or abcdefgh) - total(cpu{host!=""}[9]) or cpu`
+
+// allCode has slots, groups and a jump.
+func allCode() string {
+	return parts{[]int{7}, []string{"cpu", "up[9]"}, []string{"host,a", ""}, []int{1, 1, 2, 0, 10, 5, 11, 0, 1, 0, 12, 3, 13, 3, 5, 0, 13, 3, 6, 1, 10, 12, 4, 0, 3, 0}}.code()
+}
 
 func answerOf(text string) told {
 	var a told
@@ -105,6 +133,9 @@ func answerOf(text string) told {
 	a.load, a.loadAt = Load(text)
 	a.asQuery, a.evalQuery, a.evalQueryAt = Eval(text, "a{x=1} 1:1 2:2\na{x=2} 1:3\nb{x=1} 2:7", spanOf(0, 3, 1))
 	a.asStore, a.evalStore, a.evalStoreAt = Eval(allQuery, text, spanOf(1, 12, 3))
+	a.need, a.verify, a.verifyAt = Verify(text)
+	a.asCode, a.exec, a.execAt = Exec(text, "a{x=1} 1:1 2:2\na{x=2} 1:3\ncpu{or=1} 2:7", spanOf(0, 3, 1), 100)
+	a.asCodesStore, a.execStore, a.storesAt = Exec(allCode(), text, spanOf(1, 12, 3), 1000)
 	return a
 }
 

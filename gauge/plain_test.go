@@ -62,24 +62,28 @@ func (s plainStore) says(part syntax.Part) plainValue {
 		}
 		return right
 	case syntax.Group:
-		members := map[string][]int{}
-		for key, value := range s.says(p.Of).items {
-			var own []string
-			for _, label := range strings.Split(key, ",") {
-				name, _, _ := strings.Cut(label, "=")
-				if name != "" && slices.Contains(p.Names, name) {
-					own = append(own, label)
-				}
-			}
-			members[strings.Join(own, ",")] = append(members[strings.Join(own, ",")], value)
-		}
-		return plainMany(p.Word, members)
+		return plainGroups(p.Word, p.Names, s.says(p.Of))
 	case syntax.Window:
 		return plainMany(p.Word, s.samples(p.From, p.Length))
 	case syntax.Selector:
 		return plainMany("last", s.samples(p, 10))
 	}
 	return plainValue{}
+}
+
+func plainGroups(word string, names []string, of plainValue) plainValue {
+	members := map[string][]int{}
+	for key, value := range of.items {
+		var own []string
+		for _, label := range strings.Split(key, ",") {
+			name, _, _ := strings.Cut(label, "=")
+			if name != "" && slices.Contains(names, name) {
+				own = append(own, label)
+			}
+		}
+		members[strings.Join(own, ",")] = append(members[strings.Join(own, ",")], value)
+	}
+	return plainMany(word, members)
 }
 
 func plainCut(value int) int {

@@ -42,13 +42,17 @@ func (l Labels) Get(name string) string {
 	return ""
 }
 
-// Among gives those labels whose names are among these.
+// Among gives those labels whose names are among these, which must be sorted:
+// code may have many thousands of them.
 func (l Labels) Among(names []string) Labels {
 	var list []Label
 	for _, one := range l.list {
-		if slices.Contains(names, one.Name) {
+		if _, found := slices.BinarySearch(names, one.Name); found {
 			list = append(list, one)
 		}
+	}
+	if len(list) == len(l.list) {
+		return l
 	}
 	return Of(list)
 }

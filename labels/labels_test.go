@@ -30,7 +30,7 @@ func TestAmong(t *testing.T) {
 		names []string
 		want  string
 	}{
-		{nil, ""}, {[]string{"x"}, ""}, {[]string{"b"}, "b=2"}, {[]string{"c", "x", "a"}, "a=1,c=3"}, {[]string{"b", "b"}, "b=2"}, {[]string{"c", "b", "a"}, "a=1,b=2,c=3"},
+		{nil, ""}, {[]string{"x"}, ""}, {[]string{"b"}, "b=2"}, {[]string{"a", "c", "x"}, "a=1,c=3"}, {[]string{"b", "b"}, "b=2"}, {[]string{"a", "b", "c"}, "a=1,b=2,c=3"}, {[]string{"a", "aa", "b", "bb", "c", "cc"}, "a=1,b=2,c=3"},
 	} {
 		among := l.Among(c.names)
 		if got := among.String(); got != c.want {

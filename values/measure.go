@@ -89,7 +89,8 @@ type group struct {
 // NewGroups makes Groups.
 func NewGroups() *Groups { return &Groups{byText: map[string]group{}} }
 
-// Measure gives what is told of each group of a vector's values.
+// Measure gives what is told of each group of a vector's values. The names
+// must be sorted.
 func (g *Groups) Measure(measure Measure, names []string, of Vector) Vector {
 	clear(g.byText)
 	for _, item := range of {

@@ -34,7 +34,7 @@ func TestGroups(t *testing.T) {
 		"count": {item("", 2), item("a", 2), item("b", 1)},
 	} {
 		check(t, word, groups.Measure(MeasureOf(word), []string{"h"}, v), want)
-		check(t, word+" twice", groups.Measure(MeasureOf(word), []string{"h", "x", "h"}, v), want)
+		check(t, word+" twice", groups.Measure(MeasureOf(word), []string{"h", "h", "x"}, v), want)
 		check(t, word+" of nothing", groups.Measure(MeasureOf(word), []string{"h"}, nil), Vector{})
 	}
 }
