@@ -21,28 +21,28 @@ func Run(code bytecode.Code, all []series.Series, times []int, fuel int) (string
 	}
 	m := newMachine(code, all)
 	lines := make([]string, 0, len(times))
-times:
+eachTime:
 	for _, time := range times {
 		m.begin(time)
 		next := 0
-	steps:
+	eachStep:
 		for {
 			if next == len(code.Instructions) {
 				lines = append(lines, answer.Line(time, m.take()))
-				continue times
+				continue eachTime
 			}
 			if fuel == 0 {
-				break times
+				break eachTime
 			}
 			fuel--
 			switch one := code.Instructions[next]; one.Op {
 			case api.OpJump:
 				next = one.Argument
-				continue steps
+				continue eachStep
 			case api.OpFull:
 				if m.isFull() {
 					next = one.Argument
-					continue steps
+					continue eachStep
 				}
 			default:
 				m.do(one)
