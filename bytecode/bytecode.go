@@ -1,7 +1,10 @@
-// Package bytecode: code for the machine, read from a text of bytes.
+// Package bytecode: code for the machine, read from a text of bytes and told
+// as one.
 package bytecode
 
 import (
+	"strconv"
+
 	"gauge/api"
 	"gauge/syntax"
 )
@@ -25,6 +28,15 @@ type Instruction struct{ Op, Argument int }
 
 // IsRange tells whether a selector picks a range.
 func (s Selector) IsRange() bool { return s.Length > 0 }
+
+// String tells a selector as it stands in code.
+func (s Selector) String() string {
+	text := syntax.Print(s.From)
+	if s.IsRange() {
+		text += "[" + strconv.Itoa(s.Length) + "]"
+	}
+	return text
+}
 
 // CanJump tells whether another instruction than the one behind it may be
 // next.

@@ -37,6 +37,26 @@ func TestRead(t *testing.T) {
 	}
 }
 
+func TestWrite(t *testing.T) {
+	for _, body := range []string{
+		wholeBody,
+		"g\x00\x00\x00\x00\x00\x00\x00\x00",
+		"g\x00\x02\x00\x00\x00\x00\x00\x00" + "\x3b\x9a\xca\x00" + "\xc4\x65\x36\x00",
+		"g\x00\x00\x00\x01\x00\x00\x00\x00" + "\x01\x2c" + "c{" + strings.Repeat(`b="",`, 58) + `c="abc"}`,
+		"g\x00\x00\x00\x00\x00\x00\x00\x01" + "\x0d\xff\xfe",
+	} {
+		body = strings.Replace(body, "b,ab", "ab,b", 1) // as Read gives it
+		code, err := Read(sealed(body))
+		if got := Write(code); err != nil || got != sealed(body) {
+			t.Errorf("Write(%v) = %q, want %q (%v)", code, got, sealed(body), err)
+		}
+	}
+	many := Code{Instructions: make([]Instruction, 65535)}
+	if got := Write(many); got[:9] != "g\x00\x00\x00\x00\x00\x00\xff\xff" || len(got) != 9+3*65535+4 {
+		t.Errorf("of 65535 instructions: %q and so on, %d bytes", got[:9], len(got))
+	}
+}
+
 func checkPlace(t *testing.T, text string, place int) {
 	t.Helper()
 	_, err := Read(text)

@@ -7,6 +7,7 @@ import (
 	"gauge/answer"
 	"gauge/api"
 	"gauge/bytecode"
+	"gauge/compile"
 	"gauge/eval"
 	"gauge/fault"
 	"gauge/machine"
@@ -90,7 +91,23 @@ func execute(code string, store string, span api.Span, fuel int) (string, error)
 }
 
 // Compile makes code of a query (P8).
-func Compile(query string, flags int) (string, api.Errno, int) { return "", api.OK, 0 }
+func Compile(query string, flags int) (string, api.Errno, int) {
+	code, err := codeOf(query, flags)
+	return code, numberOf(err), placeOf(err)
+}
+
+const allFlags = api.Fold | api.Share | api.Thread
+
+func codeOf(query string, flags int) (string, error) {
+	part, err := syntax.Read(query)
+	if err != nil {
+		return "", err
+	}
+	if flags < 0 || flags > allFlags {
+		return "", fault.Refer
+	}
+	return bytecode.Write(compile.Query(part, flags)), nil
+}
 
 func numberOf(err error) api.Errno {
 	switch {

@@ -46,6 +46,9 @@ func oddTexts() []string {
 		code := m.bend(m.code(1 + m.Intn(4)))
 		texts = append(texts, code.code(), sealed(m.spoil(code.body())))
 	}
+	for range 300 {
+		texts = append(texts, m.dense(5+m.Intn(3), new([]sample)).printed, m.smallCrowd())
+	}
 	return texts
 }
 
@@ -60,6 +63,7 @@ func TestNothingBesideAnError(t *testing.T) {
 		}
 		checkNothingBeside(t, text)
 		checkNothingBesideCode(t, text)
+		checkNothingBesideCompile(t, text)
 		e, at = Load(text)
 		if e != api.ErrStore && e != api.ErrTwice && at != 0 || at < 0 || at > strings.Count(text, "\n") {
 			t.Errorf("P1: Load(%.60q) tells %d with %d", text, at, e)
@@ -96,6 +100,24 @@ func checkNothingBesideCode(t *testing.T, text string) {
 	}
 }
 
+func checkNothingBesideCompile(t *testing.T, text string) {
+	t.Helper()
+	_, wanted, place := Print(text)
+	for flags := range 8 {
+		if code, e, at := Compile(text, flags); e != wanted || at != place || (code == "") != (e != api.OK) {
+			t.Errorf("P1: Compile(%.60q, %d) = %q, %d, %d", text, flags, code, e, at)
+		}
+	}
+	if wanted == api.OK {
+		wanted = api.ErrRefer
+	}
+	for _, flags := range []int{-1, 8} {
+		if code, e, at := Compile(text, flags); code != "" || e != wanted || at != place {
+			t.Errorf("P1: Compile(%.60q, %d) = %q, %d, %d", text, flags, code, e, at)
+		}
+	}
+}
+
 func TestNoCallPanics(t *testing.T) {
 	numbers := []int{math.MinInt, -1, 0, 1, 7, 8, math.MaxInt}
 	for _, text := range oddTexts()[:100] {
@@ -118,6 +140,10 @@ type told struct {
 	asCode, asCodesStore       string
 	verify, exec, execStore    api.Errno
 	verifyAt, execAt, storesAt int
+
+	codes      [8]string
+	compiles   [8]api.Errno
+	compilesAt [8]int
 }
 
 const allQuery = `sum by (x,or) (a + b * cpu or abcdefgh) - total(cpu{host!=""}[9]) or cpu`
@@ -136,6 +162,9 @@ func answerOf(text string) told {
 	a.need, a.verify, a.verifyAt = Verify(text)
 	a.asCode, a.exec, a.execAt = Exec(text, "a{x=1} 1:1 2:2\na{x=2} 1:3\ncpu{or=1} 2:7", spanOf(0, 3, 1), 100)
 	a.asCodesStore, a.execStore, a.storesAt = Exec(allCode(), text, spanOf(1, 12, 3), 1000)
+	for flags := range a.codes {
+		a.codes[flags], a.compiles[flags], a.compilesAt[flags] = Compile(text, flags)
+	}
 	return a
 }
 
